@@ -1,0 +1,1 @@
+"""Papers that stand on other papers."""

@@ -1,0 +1,31 @@
+"""What a house keeps: papers and revocations, each with the day on which it was heard."""
+
+
+class Paper:
+    def __init__(self, number, first, last, grounds, heard):
+        self.number = number
+        self.first = first
+        self.last = last
+        # Each ground is a list of rests; a rest is a tuple: a paper's number, and 0 or 1 as it was told.
+        self.grounds = grounds
+        self.heard = heard
+
+
+class Revocation:
+    def __init__(self, number, paper, since, heard):
+        self.number = number
+        self.paper = paper
+        self.since = since
+        self.heard = heard
+        # The day is kept, not a mere yes: as known before that day the revocation still counts.
+        self.taken_back = None
+
+
+class House:
+    def __init__(self):
+        self.today = 0
+        # The day of the newest decision: nothing more is heard on it.
+        self.decided_on = None
+        # Dicts keep the order of telling, in which answers name what was told.
+        self.papers = {}
+        self.revocations = {}

@@ -2,10 +2,10 @@
 
 from papersonpapers.calls import PROOF, STANDS, TREE, WHY
 from papersonpapers.known import known_at, revocation_of
-from papersonpapers.limits import is_day, is_number
 from papersonpapers.proofs import closed_set, proof_steps, set_is_right, steps_are_right
-from papersonpapers.refusals import ACCEPTED, NOT_YET, OUT_OF_RANGE, WRONG_LIST
-from papersonpapers.standing import ranks_under
+from papersonpapers.refusals import ACCEPTED, WRONG_LIST, refusal_of_asked
+from papersonpapers.rows import flat, is_made_of, parts
+from papersonpapers.standing import is_standing, ranks_under
 
 STANDING = 0
 NOT_KNOWN = 1
@@ -23,7 +23,7 @@ def answer_asked(house, call):
     asked = (numbers[0], numbers[1])
     known = known_at(house, numbers[2])
     if call.number == STANDS:
-        return [ACCEPTED, 1 if asked in ranks_under(known, asked) else 0]
+        return [ACCEPTED, 1 if is_standing(known, asked) else 0]
     if call.number == WHY:
         return [ACCEPTED] + why(known, asked)
     if call.number == PROOF:
@@ -33,16 +33,8 @@ def answer_asked(house, call):
     return shut(known, asked, call.row)
 
 
-def refusal_of_asked(house, paper, day, known_day):
-    if not (is_number(paper) and is_day(day) and is_day(known_day)):
-        return OUT_OF_RANGE
-    if known_day > house.today:
-        return NOT_YET
-    return ACCEPTED
-
-
 def why(known, asked):
-    if asked in ranks_under(known, asked):
+    if is_standing(known, asked):
         return [STANDING]
     if asked[0] not in known.papers:
         return [NOT_KNOWN]
@@ -58,7 +50,7 @@ def why(known, asked):
 
 
 def proof(known, asked):
-    ranks = ranks_under(known, asked)
+    ranks = ranks_under(known, [asked])
     if asked in ranks:
         return [1] + flat(proof_steps(known, asked, ranks))
     return [0] + flat(closed_set(known, asked, ranks))
@@ -74,18 +66,3 @@ def shut(known, asked, row):
     if not is_made_of(row, 2):
         return [WRONG_LIST]
     return [ACCEPTED, 1 if set_is_right(known, asked, parts(row, 2)) else 0]
-
-
-def is_made_of(row, size):
-    return len(row) % size == 0 and all([number >= 0 for number in row])
-
-
-def parts(row, size):
-    return [tuple(row[place:place + size]) for place in range(0, len(row), size)]
-
-
-def flat(tuples):
-    row = []
-    for one in tuples:
-        row.extend(one)
-    return row

@@ -9,6 +9,15 @@ WHY = 5
 PROOF = 6
 TREE = 7
 SHUT = 8
+ALL_THAT_STAND = 9
+SPANS = 10
+PULLED = 11
+CHAIN = 12
+MOVED = 13
+DECIDE = 14
+REVIEW = 15
+TOLD_OF = 16
+SIZES = 17
 
 # Of each call, by its number: how many whole numbers it has, and whether a row comes behind them.
 SHAPES = {
@@ -21,6 +30,15 @@ SHAPES = {
     6: (3, False),
     7: (3, True),
     8: (3, True),
+    9: (2, False),
+    10: (2, False),
+    11: (3, False),
+    12: (4, False),
+    13: (3, False),
+    14: (2, False),
+    15: (0, False),
+    16: (1, False),
+    17: (0, False),
 }
 
 

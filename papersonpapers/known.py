@@ -22,10 +22,26 @@ def counts_at(revocation, day):
     return revocation.taken_back is None or day < revocation.taken_back
 
 
+def without_revocation(known, left_out):
+    return Known(known.papers, [one for one in known.revocations if one.number != left_out.number])
+
+
+# Gives back the known revocation with this number, or None.
+def find_revocation(known, number):
+    for revocation in known.revocations:
+        if revocation.number == number:
+            return revocation
+    return None
+
+
+def hits(revocation, pair):
+    return revocation.paper == pair[0] and revocation.since <= pair[1]
+
+
 # Gives back the first known revocation, as told, that hits the pair, or None.
 def revocation_of(known, pair):
     for revocation in known.revocations:
-        if revocation.paper == pair[0] and revocation.since <= pair[1]:
+        if hits(revocation, pair):
             return revocation
     return None
 

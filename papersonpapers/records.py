@@ -1,4 +1,4 @@
-"""What a house keeps: papers and revocations, each with the day on which it was heard."""
+"""What a house keeps: papers and revocations, each with the day on which it was heard, and decisions."""
 
 
 class Paper:
@@ -21,11 +21,20 @@ class Revocation:
         self.taken_back = None
 
 
+class Decision:
+    def __init__(self, number, paper, day, stood, made):
+        self.number = number
+        self.paper = paper
+        self.day = day
+        self.stood = stood
+        # The day that was today then, as known at which it was decided.
+        self.made = made
+
+
 class House:
     def __init__(self):
         self.today = 0
-        # The day of the newest decision: nothing more is heard on it.
-        self.decided_on = None
         # Dicts keep the order of telling, in which answers name what was told.
         self.papers = {}
         self.revocations = {}
+        self.decisions = []

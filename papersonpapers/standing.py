@@ -25,12 +25,24 @@ def all_rests(grounds):
     return rests
 
 
-# Gives back the ranks of those that stand among the asked pair and all that it may rest on.
-# Nothing else has a say in whether the asked one stands, so nothing else is looked at.
-def ranks_under(known, asked):
+# Gives back the grounds of the started pairs and of all that these may rest on.
+def grounds_under(known, started):
     grounds = {}
-    for pair in come_to(asked, lambda one: all_rests(grounds_of(known, one))):
-        grounds[pair] = grounds_of(known, pair)
+    waiting = list(started)
+    place = 0
+    while place < len(waiting):
+        pair = waiting[place]
+        if pair not in grounds:
+            grounds[pair] = grounds_of(known, pair)
+            waiting.extend(all_rests(grounds[pair]))
+        place += 1
+    return grounds
+
+
+# Gives back the ranks of those that stand among the started pairs and all that these may rest on.
+# Nothing else has a say in whether one of these stands, so nothing else is looked at.
+def ranks_under(known, started):
+    grounds = grounds_under(known, started)
     leaning = leaning_on(grounds)
     ranks = {}
     fresh = [pair for pair in grounds if has_full_ground(grounds[pair], ranks)]
@@ -41,6 +53,20 @@ def ranks_under(known, asked):
         fresh = newly_standing(fresh, grounds, leaning, ranks)
         rank += 1
     return ranks
+
+
+def is_standing(known, pair):
+    return pair in ranks_under(known, [pair])
+
+
+def papers_on(known, day):
+    return [(number, day) for number in known.papers]
+
+
+# Gives back the numbers of all papers that stand on the day, as told.
+def standing_on(known, day):
+    ranks = ranks_under(known, papers_on(known, day))
+    return [number for number in known.papers if (number, day) in ranks]
 
 
 # Gives back, for each pair, those that have it among their rests.
@@ -55,18 +81,23 @@ def leaning_on(grounds):
 
 
 def has_full_ground(grounds, ranks):
-    return any([is_full(ground, ranks) for ground in grounds])
+    for ground in grounds:
+        if is_full(ground, ranks):
+            return True
+    return False
 
 
 def is_full(ground, ranks):
-    return all([rest in ranks for rest in ground])
+    for rest in ground:
+        if rest not in ranks:
+            return False
+    return True
 
 
 # Only those that lean on what stood up in the last round can stand up in this one.
 def newly_standing(fresh, grounds, leaning, ranks):
-    found = {}
+    leaners = {}
     for pair in fresh:
         for leaner in leaning[pair]:
-            if leaner not in ranks and has_full_ground(grounds[leaner], ranks):
-                found[leaner] = True
-    return list(found)
+            leaners[leaner] = True
+    return [pair for pair in leaners if pair not in ranks and has_full_ground(grounds[pair], ranks)]

@@ -19,7 +19,7 @@ def answer_telling(house, call):
 
 
 def decided_today(house):
-    return house.decided_on == house.today
+    return any([decision.made == house.today for decision in house.decisions])
 
 
 def tell_day(house, day):

@@ -44,6 +44,42 @@ def shut(of, d, k, members):
     return [8, of, d, k, len(members)] + list(members)
 
 
+def all_that_stand(d=0, k=0):
+    return [9, d, k]
+
+
+def spans(of, k=0):
+    return [10, of, k]
+
+
+def pulled(revocation, d=0, k=0):
+    return [11, revocation, d, k]
+
+
+def chain(revocation, of, d=0, k=0):
+    return [12, revocation, of, d, k]
+
+
+def moved(d, k, m):
+    return [13, d, k, m]
+
+
+def decide(of, d=0):
+    return [14, of, d]
+
+
+def review():
+    return [15]
+
+
+def told_of(of):
+    return [16, of]
+
+
+def sizes():
+    return [17]
+
+
 def split(given):
     rows = []
     place = 0
@@ -62,6 +98,11 @@ def last(*calls):
     return run(*calls)[-1]
 
 
+def behind(told, *asked):
+    """The answers to what is asked alone, behind what is told."""
+    return run(*told, *asked)[len(told):]
+
+
 def ground(*rests):
     row = [len(rests)]
     for rest in rests:
@@ -76,6 +117,8 @@ class Model:
         self.papers = {}
         self.revocations = {}
         self.ranks = {}
+        self.least_ranks = {}
+        self.spared = {}
         today = 0
         for call in calls:
             if call[0] == 0:
@@ -125,10 +168,10 @@ class Model:
 
     def rank(self, number, d):
         """Its rank, or None: no rank is beyond the count of papers on days."""
-        for rank in range(1, len(self.papers) * len(self.days(d)) + 1):
-            if self.within(rank, number, d):
-                return rank
-        return None
+        if (number, d) not in self.least_ranks:
+            ranks = range(1, len(self.papers) * len(self.days(d)) + 1)
+            self.least_ranks[number, d] = next((rank for rank in ranks if self.within(rank, number, d)), None)
+        return self.least_ranks[number, d]
 
     def why(self, number, d):
         if self.rank(number, d) is not None:
@@ -179,3 +222,54 @@ class Model:
             if longer == row:
                 return row
             row = longer
+
+    def stands(self, number, d):
+        return self.rank(number, d) is not None
+
+    def all(self, d):
+        return [number for number in self.papers if self.stands(number, d)]
+
+    def spans(self, number, final):
+        """Day by day, up to a day behind which nothing is good any more."""
+        row = []
+        for d in range(final + 1):
+            if self.stands(number, d):
+                if row and row[-1] == d - 1:
+                    row[-1] = d
+                else:
+                    row += [d, d]
+        return row
+
+    def without(self, revocation):
+        if revocation not in self.spared:
+            model = Model([], 0)
+            model.papers = self.papers
+            model.revocations = {number: row for number, row in self.revocations.items() if number != revocation}
+            self.spared[revocation] = model
+        return self.spared[revocation]
+
+    def pulls(self, revocation, number, d):
+        return self.without(revocation).stands(number, d) and not self.stands(number, d)
+
+    def pulled(self, revocation, d):
+        return [number for number in self.papers if self.pulls(revocation, number, d)]
+
+    def chain(self, revocation, number, d):
+        if not self.pulls(revocation, number, d):
+            return [0, 0]
+        of, since = self.revocations[revocation]
+        ways = [[(number, d)]]
+        before = [(number, d)]
+        while True:
+            for way in ways:
+                if way[-1][0] == of and way[-1][1] >= since:
+                    return [0, 1] + [n for pair in way for n in pair]
+            longer = []
+            for way in ways:
+                for rest in [rest for row in self.rests(*way[-1]) for rest in row]:
+                    if self.pulls(revocation, *rest) and rest not in before:
+                        before.append(rest)
+                        longer.append(way + [rest])
+            ways = longer
+            if not ways:
+                return None

@@ -157,6 +157,29 @@ class Language(unittest.TestCase):
                 if isinstance(node, ast.Call) and isinstance(node.func, ast.Attribute):
                     self.assertNotEqual(ast.unparse(node.func.value), walked, (path, loop.lineno))
 
+    def test_sets_stand_straight_within_sorted_or_len(self):
+        for path, tree in trees():
+            calls = [node for node in ast.walk(tree) if isinstance(node, ast.Call) and isinstance(node.func, ast.Name)]
+            fitting = [node.args[0] for node in calls if node.func.id in ("sorted", "len") and not node.keywords]
+            for node in calls:
+                if node.func.id in ("set", "frozenset"):
+                    self.assertIn(node, fitting, (path, node.lineno))
+
+    def test_what_is_walked_at_once_is_not_kept(self):
+        for path, tree in trees():
+            walked = [node.iter for node in ast.walk(tree) if isinstance(node, (ast.For, ast.comprehension))]
+            for node in ast.walk(tree):
+                if isinstance(node, ast.Call):
+                    name = node.func.id if isinstance(node.func, ast.Name) else node.func.attr
+                    if name in ("zip", "enumerate", "reversed", "range", "items", "keys", "values"):
+                        self.assertIn(node, walked, (path, node.lineno))
+
+    def test_is_stands_beside_none_true_and_false_alone(self):
+        for path, node in nodes(ast.Compare):
+            for sign, right in zip(node.ops, node.comparators):
+                if isinstance(sign, (ast.Is, ast.IsNot)):
+                    self.assertIn(ast.unparse(right), ("None", "True", "False"), path)
+
 
 if __name__ == "__main__":
     unittest.main()

@@ -2,10 +2,8 @@
 
 import unittest
 
-from papersonpapers.calls import read_call
-from papersonpapers.records import House
-from papersonpapers.told import answer_telling
-from tests.helper import FREE, HUGE, back, day, ground, last, paper, proof, revoke, run, stands, why
+from tests.helper import FREE, HUGE, all_that_stand, back, behind, chain, day, decide, ground, last, moved, paper, proof
+from tests.helper import pulled, review, revoke, run, sizes, spans, stands, told_of, why
 
 NUMBERS_OUT = (0, 1000, -1, HUGE, -HUGE)
 DAYS_OUT = (-1, 10000, HUGE, -HUGE)
@@ -130,47 +128,45 @@ class Back(unittest.TestCase):
 
 
 class DecidedToday(unittest.TestCase):
-    """No call that is built decides anything, so the day of a decision is put into the house."""
-
-    def setUp(self):
-        self.house = House()
-        self.tell(paper(1))
-        self.tell(revoke(1, 1))
-        self.house.decided_on = 0
-
-    def tell(self, call):
-        return answer_telling(self.house, read_call(call, 0))
+    told = [day(3), paper(1), revoke(1, 1, 50), decide(1, 10)]
 
     def test_nothing_more_is_heard_on_that_day(self):
-        for call in (paper(2), revoke(2, 1), back(1)):
-            self.assertEqual(self.tell(call), [-5])
-        self.assertEqual((list(self.house.papers), list(self.house.revocations)), ([1], [1]))
-        self.assertIsNone(self.house.revocations[1].taken_back)
+        given = behind(self.told, paper(2), revoke(2, 1), back(1), sizes(), told_of(2), stands(1, 50, 3), stands(1, 0, 3))
+        self.assertEqual(given, [[-5], [-5], [-5], [0, 3, 1, 1, 1], [-3], [0, 0], [0, 1]])
+
+    def test_also_if_the_decision_is_that_it_does_not_stand(self):
+        self.assertEqual(run(decide(7), paper(2), revoke(2, 1)), [[0, 1, 0], [-5], [-5]])
 
     def test_the_same_day_told_again_is_that_day(self):
-        self.assertEqual(self.tell(day(0)), [0])
-        self.assertEqual(self.tell(paper(2)), [-5])
+        given = behind(self.told, day(3), paper(2), revoke(2, 1), back(1), day(3), decide(1), paper(2))
+        self.assertEqual(given, [[0], [-5], [-5], [-5], [0], [0, 2, 1], [-5]])
 
-    def test_on_the_next_day_it_is_heard(self):
-        self.assertEqual(self.tell(day(1)), [0])
-        self.assertEqual([self.tell(call) for call in (paper(2), revoke(2, 1), back(1))], [[0, 2], [0, 2], [0]])
+    def test_a_day_that_is_refused_does_not_make_it_another_day(self):
+        self.assertEqual(behind(self.told, day(2), day(10000), paper(2)), [[-5], [-2], [-5]])
 
-    def test_order_of_refusals(self):
-        for call in (paper(0), revoke(0, 1), back(0)):
-            self.assertEqual(self.tell(call), [-2])
-        for call in (paper(2, 0, 9, [9]), paper(1), revoke(1, 1), back(2)):
-            self.assertEqual(self.tell(call), [-5])
+    def test_on_a_later_day_it_is_heard(self):
+        given = behind(self.told, day(4), paper(2), revoke(2, 1), back(1), stands(1, 50, 3), told_of(2), sizes())
+        self.assertEqual(given, [[0], [0, 2], [0, 2], [0], [0, 0], [0, 0, 9999, 4, 0], [0, 4, 2, 2, 1]])
 
-    def test_a_decision_comes_before_full_and_before_taken_back(self):
-        self.house.decided_on = None
-        for number in range(2, 21):
-            self.tell(revoke(number, 1))
-        for number in range(2, 25):
-            self.tell(paper(number))
-        self.tell(back(1))
-        self.house.decided_on = 0
-        for call in (paper(25), revoke(21, 1), back(1)):
-            self.assertEqual(self.tell(call), [-5])
+    def test_each_day_of_a_decision_and_no_other(self):
+        given = behind(self.told, day(5), paper(2), decide(2), paper(3), day(6), paper(3), day(9), decide(3), back(1))
+        self.assertEqual(given, [[0], [0, 2], [0, 2, 1], [-5], [0], [0, 3], [0], [0, 3, 1], [-5]])
+
+    def test_a_decision_that_is_refused_is_none(self):
+        self.assertEqual(run(decide(0), decide(1, 10000), paper(1), revoke(1, 1), back(1))[2:], [[0, 1], [0, 1], [0]])
+
+    def test_out_of_range_comes_before_it(self):
+        self.assertEqual(behind(self.told, paper(0), paper(2, 10000), paper(2, 0, -1), revoke(0, 1), revoke(2, 0),
+                                revoke(2, 1, -1), back(0), back(1000)), [[-2]] * 8)
+
+    def test_it_comes_before_the_list_and_before_what_is_told_or_is_not(self):
+        given = behind(self.told, paper(2, 0, 9, [9]), paper(1), paper(1, 0, 9, [9]), revoke(1, 1), back(2))
+        self.assertEqual(given, [[-5]] * 5)
+
+    def test_it_comes_before_full_and_before_taken_back(self):
+        told = FULL_OF_PAPERS + FULL_OF_REVOCATIONS + [back(1), decide(1)]
+        self.assertEqual(behind(told, paper(25), revoke(21, 1), back(1)), [[-5]] * 3)
+        self.assertEqual(behind(told, day(1), paper(25), revoke(21, 1), back(1)), [[0], [-6], [-6], [-4]])
 
 
 class RefusalsChangeNothing(unittest.TestCase):
@@ -179,9 +175,12 @@ class RefusalsChangeNothing(unittest.TestCase):
         refused = [
             day(-1), day(10000), day(3), paper(0), paper(3, 0, 9, [1]), paper(1, 9, 9, []), revoke(3, 0), revoke(1, 2),
             back(0), back(3), back(2), stands(0), stands(1, 0, 5), why(1, -1), proof(1, 10000), proof(1, 0, 10000),
+            all_that_stand(-1, 0), all_that_stand(0, 5), spans(0), spans(1, 5), pulled(0), pulled(1, 0, 5), pulled(2, 0, 4),
+            chain(0, 1), chain(1, 1, 0, 5), chain(3, 1, 0, 4), moved(0, 5, 0), moved(0, 0, 10000), decide(0), decide(1, -1),
+            told_of(0), told_of(3),
         ]
-        asked = [call(of, d, k) for call in (stands, proof) for of in (1, 2, 3) for d in (0, 10, 30, 55) for k in (3, 4)]
-        asked += [paper(3), revoke(3, 1)]
+        asked = [call(of, d, k) for call in (stands, proof) for of in (1, 2, 3) for d in (0, 10, 30) for k in (3, 4)]
+        asked += [review(), sizes(), pulled(1, 30, 4), paper(3), revoke(3, 1), sizes(), decide(1, 30), review(), sizes()]
         plain = run(*told, *asked)
         given = run(*told, *refused, *asked)
         self.assertEqual(len(given), len(told) + len(refused) + len(asked))
